@@ -1,0 +1,1 @@
+"""Owedrebuilds: which change owes which document a rebuild."""
