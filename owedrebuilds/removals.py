@@ -11,7 +11,7 @@ def removal(store, table, key):
     _check_refusals(store, found)
     left = store.duplicate()
     out = []
-    for place in reversed(found):
+    for place in found[::-1]:
         steps = _clearings(left, place)
         for step in steps:
             left.happen(step)
