@@ -5,6 +5,8 @@ import os
 import unittest
 
 import owedrebuilds
+from owedrebuilds.stores import Row
+from owedrebuilds.ways import Way
 
 FOLDER = os.path.dirname(owedrebuilds.__file__)
 
@@ -31,6 +33,34 @@ INTERFACE = {
             "__getitem__": None, "__setitem__": None, "__eq__": None, "__iter__": None,
         },
     },
+    "ways": {
+        "Way": {
+            "__init__": ["schema", "text"], "of": None, "is_straight": None,
+            "__call__": ["store", "key"], "trails": ["store", "key"],
+            "first_trail": ["store", "key", "end"], "is_trail": ["store", "thing"],
+            "asking": ["position", "flags"], "beginning": ["many"], "__rshift__": None,
+            "__invert__": None, "__contains__": None, "__eq__": None, "__len__": None,
+            "__str__": None,
+        },
+    },
+    "documents": {
+        "Document": {
+            "__init__": ["name", "reads"], "__call__": ["store", "key"], "count": ["store", "key"],
+            "__len__": None, "__contains__": None,
+        },
+    },
+    "hooks": {
+        "Look": {},
+        "Hook": {
+            "__init__": ["event", "look", "way", "document"], "__call__": ["store", "key"],
+            "answers": ["change"], "looking": ["look"], "__eq__": None, "__str__": None,
+        },
+    },
+}
+
+# For each module its functions with their parameters.
+FUNCTIONS = {
+    "ways": {"least_rows": ["way"], "image": ["narrow", "wide"]},
 }
 
 
@@ -71,9 +101,20 @@ class Interface(unittest.TestCase):
                         found = list(inspect.signature(vars(made)[method]).parameters)
                         self.assertEqual(found, ["self"] + wanted, method)
 
-    def test_cells_is_a_property(self):
-        from owedrebuilds.stores import Row
+    def test_each_function_is_defined_in_its_file(self):
+        for module, functions in FUNCTIONS.items():
+            for name, wanted in functions.items():
+                found = getattr(importlib.import_module("owedrebuilds." + module), name)
+                self.assertEqual(found.__module__, "owedrebuilds." + module)
+                self.assertEqual(list(inspect.signature(found).parameters), wanted)
+
+    def test_properties(self):
         self.assertIsInstance(vars(Row)["cells"], property)
+        self.assertIsInstance(vars(Way)["is_straight"], property)
+
+    def test_of_is_a_class_method(self):
+        self.assertIsInstance(vars(Way)["of"], classmethod)
+        self.assertEqual(list(inspect.signature(Way.of).parameters), ["schema", "words"])
 
 
 class Files(unittest.TestCase):
