@@ -18,11 +18,34 @@ def legs(way, places):
 
 def joined(way, rows, key):
     """The keys of the rows that a way joins with a row, ascending."""
-    places = visited(way, rows)
-    found = _beginnings(places, key)
-    for pairs in legs(way, places):
-        found = {there: True for here, there in pairs if here in found}
-    return sorted(found)
+    return reached(way, by_tables(way.schema, rows), key)
+
+
+def by_tables(schema, rows):
+    """For each table a dict from the keys of its rows to their cells."""
+    return {
+        table: {key: cells for home, key, cells in rows if home == table}
+        for table in schema.tables
+    }
+
+
+def reached(way, homes, key):
+    """As `joined`, in rows that `by_tables` gives, for ways that go through the same rows."""
+    here = _asked({key: True}, homes[way.start], way.asked[0])
+    for at, hop in enumerate(way.hops):
+        back, table, link = hop
+        rows = homes[table]
+        if back:
+            here = {there: True for there in rows if rows[there][link] in here}
+        else:
+            here = {rows[near][link]: True for near in here}
+        here = _asked(here, homes[way.tables[at + 1]], way.asked[at + 1])
+    return sorted(here)
+
+
+def _asked(found, rows, flags):
+    """Those of the keys whose rows may be visited; None, where a link is not set, is none of them."""
+    return {key: True for key in found if key in rows and all([rows[key][flag] for flag in flags])}
 
 
 def counted(way, rows, key):

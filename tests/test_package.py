@@ -5,6 +5,9 @@ import os
 import unittest
 
 import owedrebuilds
+from owedrebuilds.books import Book
+from owedrebuilds.desks import Desk, HookedRow, owed_by
+from owedrebuilds.scenes import meetings, scenes
 from owedrebuilds.stores import Row
 from owedrebuilds.ways import Way
 
@@ -61,6 +64,8 @@ INTERFACE = {
 # For each module its functions with their parameters.
 FUNCTIONS = {
     "ways": {"least_rows": ["way"], "image": ["narrow", "wide"]},
+    "desks": {"owed_by": ["book", "store", "deed"]},
+    "scenes": {"scenes": ["book"], "cover": ["scene", "hook"], "meetings": ["hook"]},
 }
 
 
@@ -110,7 +115,21 @@ class Interface(unittest.TestCase):
 
     def test_properties(self):
         self.assertIsInstance(vars(Row)["cells"], property)
+        self.assertIsInstance(vars(HookedRow)["cells"], property)
         self.assertIsInstance(vars(Way)["is_straight"], property)
+
+    def test_what_is_passed_by_name_only(self):
+        for action, names in ((Book.__init__, ["bulk"]), (Desk.__init__, ["most"]), (Desk.do, ["at_once"])):
+            found = inspect.signature(action).parameters.values()
+            self.assertEqual([one.name for one in found if one.kind == one.KEYWORD_ONLY], names)
+
+    def test_answers_that_are_generators(self):
+        for action in (Way.trails, owed_by, scenes, meetings):
+            self.assertTrue(inspect.isgeneratorfunction(action))
+
+    def test_read_is_a_static_method(self):
+        self.assertIsInstance(vars(Book)["read"], staticmethod)
+        self.assertEqual(list(inspect.signature(Book.read).parameters), ["text"])
 
     def test_of_is_a_class_method(self):
         self.assertIsInstance(vars(Way)["of"], classmethod)
