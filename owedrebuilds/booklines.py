@@ -60,8 +60,6 @@ def _schema_end(lines):
 
 
 def _schema_of(lines):
-    if not lines:
-        raise BadLine(0)
     try:
         return Schema("\n".join(lines))
     except BadSchema as why:
@@ -140,7 +138,7 @@ def _base(draft, name):
 
 def _take_bulk(draft, words):
     column = tuple(words[1:])
-    if len(words) != 3 or column not in draft.schema or column in draft.bulk:
+    if column not in draft.schema or column in draft.bulk:
         return False
     draft.bulk.append(column)
     return True

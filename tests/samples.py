@@ -69,3 +69,30 @@ def changed_book(source, book):
     else:
         hooks.insert(at, random_hook(source, source.choice(book.documents), 3))
     return Book(book.documents, hooks[:60], bulk=book.bulk)
+
+
+def late_book(source, book):
+    """A straight book with some of its hooks looking late, left out or asking more."""
+    hooks = []
+    for hook in book:
+        chance = source.random()
+        if hook.event[0] == "remove" and chance < 0.95:
+            hooks.append(hook)
+        elif chance < 0.5:
+            hooks.append(hook.looking("late"))
+        elif chance < 0.95:
+            hooks.append(hook)
+        if chance < 0.2:
+            hooks.append(hook.looking("ahead"))
+    for at, hook in enumerate(hooks):
+        if source.random() < 0.25 and conditions(hook):
+            hooks[at] = asking(hook, *source.choice(conditions(hook)))
+    return Book(book.documents, hooks, bulk=book.bulk)
+
+
+def straight_document(source, schema, steps, reads):
+    """A document whose ways come to no table twice."""
+    while True:
+        document = random_document(source, schema, steps, reads)
+        if all(way.is_straight for way, _ in document.reads):
+            return document

@@ -7,6 +7,7 @@ import unittest
 import owedrebuilds
 from owedrebuilds.books import Book
 from owedrebuilds.desks import Desk, HookedRow, owed_by
+from owedrebuilds.fewest import full_book
 from owedrebuilds.scenes import meetings, scenes
 from owedrebuilds.stores import Row
 from owedrebuilds.ways import Way
@@ -66,6 +67,13 @@ FUNCTIONS = {
     "ways": {"least_rows": ["way"], "image": ["narrow", "wide"]},
     "desks": {"owed_by": ["book", "store", "deed"]},
     "scenes": {"scenes": ["book"], "cover": ["scene", "hook"], "meetings": ["hook"]},
+    "judging": {"judge": ["book"]},
+    "looker": {"is_certificate": ["book", "thing"]},
+    "fewest": {
+        "full_book": ["documents", "bulk"], "least_sets": ["book"], "looks": ["book"],
+        "may_ask": ["book", "number"], "waste": ["hook", "document"],
+    },
+    "comparing": {"compare": ["one", "other"], "is_parting": ["one", "other", "thing"]},
 }
 
 
@@ -119,7 +127,9 @@ class Interface(unittest.TestCase):
         self.assertIsInstance(vars(Way)["is_straight"], property)
 
     def test_what_is_passed_by_name_only(self):
-        for action, names in ((Book.__init__, ["bulk"]), (Desk.__init__, ["most"]), (Desk.do, ["at_once"])):
+        for action, names in (
+            (Book.__init__, ["bulk"]), (Desk.__init__, ["most"]), (Desk.do, ["at_once"]), (full_book, ["bulk"]),
+        ):
             found = inspect.signature(action).parameters.values()
             self.assertEqual([one.name for one in found if one.kind == one.KEYWORD_ONLY], names)
 
