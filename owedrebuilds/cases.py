@@ -3,34 +3,26 @@
 A turn is a case without its read: (event, side, key of the changed row).
 """
 
-from owedrebuilds.folds import cells_of_row, is_linked, subsets
+from owedrebuilds.folds import linked_keys, subsets
 
 
 def cases(schema, rows, trail, column):
     """The turns of all cases of a read, in order; rows are those of its trail."""
-    homes = {row[1]: row[0] for row in rows}
+    homes = {row[1]: row for row in rows}
+    linked = linked_keys(schema, rows)
     found = []
     for key in sorted(homes):
-        table = homes[key]
-        cells = cells_of_row(rows, key)
+        table, _, cells = homes[key]
         read = column if key == trail[-1] else None
         for name in cells:
-            sides = _sides(schema, (table, name), cells[name], read)
-            found.extend([(("set", table, name), side, key) for side in sides])
-        if key != trail[0] and not is_linked(schema, rows, table, key):
+            # Values are 0 here, so these are links and flags.
+            if cells[name] or (name == read and schema.kind(table, name) == "flag"):
+                found.extend([(("set", table, name), "off", key), (("set", table, name), "on", key)])
+            elif name == read:
+                found.append((("set", table, name), "other", key))
+        if key != trail[0] and key not in linked:
             found.extend([(("remove", table), "off", key), (("put", table), "on", key)])
     return found
-
-
-def _sides(schema, place, cell, read):
-    """The sides of the cases of a cell; read is the column that is read in its row, or None."""
-    table, column = place
-    # Values are 0 here, so these are links and flags.
-    if cell:
-        return ("off", "on")
-    if column != read:
-        return ()
-    return ("other",) if schema.kind(table, column) == "value" else ("off", "on")
 
 
 def groups(rows, turn):

@@ -2,14 +2,16 @@
 
 from owedrebuilds.booklines import MOST_HOOKS
 from owedrebuilds.books import Book
+from owedrebuilds.cases import cases
 from owedrebuilds.errors import TooMany
 from owedrebuilds.folds import subsets
 from owedrebuilds.hooks import Hook, Look
 from owedrebuilds.keeping import check_kept, coverings
-from owedrebuilds.scenes import covers, meetings, new_scene, plain_scenes, scenes
+from owedrebuilds.scenes import covers, meetings, scenes
 from owedrebuilds.traps import is_trapped
+from owedrebuilds.wayforms import form
 from owedrebuilds.ways import Way, least_rows
-from owedrebuilds.waywords import write_words
+from owedrebuilds.waywords import brackets, hop_word, turned
 
 _MOST_FOR_SETS = 10
 _MOST_FOR_LOOKS = 6
@@ -18,47 +20,40 @@ _MOST_FOR_LOOKS = 6
 def full_book(documents, *, bulk=()):
     """The book of these documents with a hook for each scene with an empty P."""
     plain = Book(documents, ())
-    hooks = []
-    for document in plain.documents:
-        hooks = _with_new(hooks, _full_hooks(document))
-    if len(hooks) > MOST_HOOKS:
+    turns = [(*turn, document.name) for document in plain.documents for turn in _full_turns(document)]
+    # Many hooks go the same way: each way is read, and put in its form, once.
+    ways = {text: Way(plain.schema, text) for text in sorted(set([turn[2] for turn in turns]))}
+    forms = {text: form(ways[text]) for text in ways}
+    left = {}
+    for turn in turns:
+        event, look, text, name = turn
+        left.setdefault((event, look, forms[text], name), turn)
+    if len(left) > MOST_HOOKS:
         raise TooMany("hooks")
+    hooks = [Hook(event, look, ways[text], name) for event, look, text, name in left.values()]
     return Book(documents, hooks, bulk=bulk)
 
 
-def _with_new(hooks, more):
-    """The hooks and those of more that are equal to no earlier one."""
-    found = list(hooks)
-    for hook in more:
-        if hook not in found:
-            found.append(hook)
-    return found
-
-
-def _full_hooks(document):
-    """The hooks for the scenes of a document, also where some are equal."""
-    home = Way(document.schema, document.base)
-    found = [_full_hook(new_scene(document), home)]
-    for number, (way, _) in enumerate(document.reads):
+def _full_turns(document):
+    """(event, look, text of the way) for the scenes of a document, also where some are equal."""
+    found = [(("put", document.base), Look.BEHIND, document.base)]
+    for way, column in document.reads:
         rows, trail = least_rows(way)
-        for scene in plain_scenes(document, number, rows, trail):
-            there = ~way.beginning(trail.index(scene.changed[1]))
-            found.append(_full_hook(scene, there))
+        tails = _tails_back(way)
+        for event, side, key in cases(document.schema, rows, trail, column):
+            at = trail.index(key)
+            # The event of a put or a removal has no column behind its table.
+            head = way.tables[at] + brackets([flag for flag in way.asked[at] if flag not in event[2:]])
+            found.append((event, Look.AHEAD if side == "off" else Look.BEHIND, head + tails[at]))
     return found
 
 
-def _full_hook(scene, way):
-    """The hook for a scene, which goes this way but for the flag that the event sets."""
-    look = Look.AHEAD if scene.side == "off" else Look.BEHIND
-    if scene.event[0] == "set":
-        way = _not_asking(way, scene.event[2])
-    return Hook(scene.event, look, way, scene.document)
-
-
-def _not_asking(way, flag):
-    """The way that does not ask a flag at position 0."""
-    first = tuple([name for name in way.asked[0] if name != flag])
-    return Way(way.schema, write_words((way.start, *way.steps), (first, *way.asked[1:])))
+def _tails_back(way):
+    """For each position what the way back from there has behind its first word."""
+    tails = [""]
+    for at, hop in enumerate(way.hops):
+        tails.append(" " + hop_word(turned(hop)) + brackets(way.asked[at]) + tails[at])
+    return tails
 
 
 def least_sets(book):

@@ -65,14 +65,13 @@ def cells_of_row(rows, key):
     return found[0]
 
 
-def is_linked(schema, rows, table, key):
-    """Whether a row, perhaps itself, links to a row."""
-    links = schema.links_to(table)
-    return any([
-        cells[link] == key
-        for home, _, cells in rows
-        for owner, link in links if owner == home
-    ])
+def linked_keys(schema, rows):
+    """A dict with the keys of all rows to which a row, perhaps the same one, links."""
+    return {
+        cells[column]: True
+        for table, _, cells in rows
+        for column in schema.links(table) if cells[column] is not None
+    }
 
 
 def subsets(numbers):

@@ -7,7 +7,10 @@ from owedrebuilds.traps import is_trapped
 
 def is_kept(book):
     """Whether no transaction on any store leaves a copy stale."""
-    return all([is_answered(book, scene) for scene in scenes(book)]) and not is_trapped(book)
+    for scene in scenes(book):
+        if not is_answered(book, scene):
+            return False
+    return not is_trapped(book)
 
 
 def check_kept(book):

@@ -1,7 +1,5 @@
 """Questions about plain values, and copies of them."""
 
-LETTERS = "abcdefghijklmnopqrstuvwxyz"
-
 
 def is_integer(thing):
     """Whether a value is an integer; True and False are none."""
@@ -17,7 +15,7 @@ def is_word(thing):
     """Whether a value is a word: one to eight letters a to z."""
     if not isinstance(thing, str) or not 1 <= len(thing) <= 8:
         return False
-    return all([letter in LETTERS for letter in thing])
+    return thing.isascii() and thing.isalpha() and thing.islower()
 
 
 def copied(thing):

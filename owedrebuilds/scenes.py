@@ -2,7 +2,7 @@
 
 from owedrebuilds.cases import cases, groups
 from owedrebuilds.cellkinds import empty_cell, full_cells
-from owedrebuilds.folds import cells_of_row, fold, is_linked, with_cell, with_row, without_row
+from owedrebuilds.folds import cells_of_row, fold, linked_keys, with_cell, with_row, without_row
 from owedrebuilds.hooks import Look
 from owedrebuilds.paths import by_tables, first_path, reached
 from owedrebuilds.stores import Store
@@ -160,7 +160,7 @@ def meetings(hook):
 
 def _can_stand_alone(hook, rows, trail):
     """Whether a hook of a put or removal meets the last row of its least store from the first one."""
-    if is_linked(hook.way.schema, rows, hook.way.start, trail[0]):
+    if trail[0] in linked_keys(hook.way.schema, rows):
         return False
     if hook.event[0] == "put":
         return hook.look != Look.AHEAD

@@ -19,6 +19,9 @@ class Schema:
         self._text = text
         self._shape = _shape_of(text.split("\n"))
         self.tables = tuple(self._shape)
+        self._flags = {table: tuple(sorted(_named(self._shape[table], "flag"))) for table in self.tables}
+        self._links = {table: tuple(_named(self._shape[table], "link")) for table in self.tables}
+        self._steps = _steps_of(self._shape)
 
     def columns(self, table):
         """The names of the columns of a table, in their order."""
@@ -48,6 +51,21 @@ class Schema:
             for column in self.columns(owner)
             if self.target(owner, column) == table
         ]
+
+    def flags(self, table):
+        """The names of the flags of a table of the schema, ascending."""
+        return self._flags[table]
+
+    def links(self, table):
+        """The names of the links of a table of the schema, in their order."""
+        return self._links[table]
+
+    def step_from(self, table, word):
+        """For a step of a way from a table (hop, table reached); None if the word is no step there.
+
+        A hop is (back, table, link): whether it goes back, and the link that it uses.
+        """
+        return self._steps[table].get(word)
 
     def _meaning(self, table, column):
         if table not in self._shape:
@@ -93,6 +111,22 @@ def _shape_of(lines):
         else:
             raise BadSchema(at)
     return shape
+
+
+def _named(columns, kind):
+    return [column for column in columns if columns[column][0] == kind]
+
+
+def _steps_of(shape):
+    """For each table a dict from the words of the steps from it to (hop, table reached)."""
+    steps = {table: {} for table in shape}
+    for table in shape:
+        for column, meaning in shape[table].items():
+            target = meaning[1]
+            if target is not None:
+                steps[table][column] = ((False, table, column), target)
+                steps[target][f"~{table}.{column}"] = ((True, table, column), table)
+    return steps
 
 
 def _written_tables(lines):

@@ -4,7 +4,8 @@ from owedrebuilds.cellkinds import full_cells
 from owedrebuilds.errors import BadWay, Mismatch, TooMany
 from owedrebuilds.paths import first_path, is_path, joined, onward_keys
 from owedrebuilds.plain import is_key
-from owedrebuilds.waywords import MOST_STEPS, read_words, step_back, write_words
+from owedrebuilds.wayforms import form
+from owedrebuilds.waywords import MOST_STEPS, all_flags, hop_word, read_words, turned, write_words
 
 
 class Way:
@@ -65,7 +66,7 @@ class Way:
     def asking(self, position, *flags):
         """A way that asks these flags at a position, too."""
         more = [flags if at == position else () for at in range(len(self.tables))]
-        asked = [_both(one, other) for one, other in zip(self.asked, more)]
+        asked = [all_flags(one, other) for one, other in zip(self.asked, more)]
         return Way(self.schema, write_words((self.start, *self.steps), asked))
 
     def beginning(self, many):
@@ -77,13 +78,13 @@ class Way:
             raise Mismatch(self.end, other.start)
         if len(self.steps) + len(other.steps) > MOST_STEPS:
             raise TooMany("steps")
-        meeting = _both(self.asked[-1], other.asked[0])
+        meeting = all_flags(self.asked[-1], other.asked[0])
         asked = (*self.asked[:-1], meeting, *other.asked[1:])
         return Way(self.schema, write_words((self.start, *self.steps, *other.steps), asked))
 
     def __invert__(self):
-        heads = [link if back else step_back(table, link) for back, table, link in self.hops]
-        return Way(self.schema, write_words((self.end, *heads[::-1]), self.asked[::-1]))
+        heads = [hop_word(turned(hop)) for hop in self.hops[::-1]]
+        return Way(self.schema, write_words((self.end, *heads), self.asked[::-1]))
 
     def __contains__(self, x):
         if not isinstance(x, Way) or not x.schema == self.schema:
@@ -94,7 +95,9 @@ class Way:
         return trail[-1] in joined(self, rows, trail[0])
 
     def __eq__(self, other):
-        return isinstance(other, Way) and self in other and other in self
+        if not isinstance(other, Way) or not self.schema == other.schema:
+            return False
+        return form(self) == form(other)
 
     def __len__(self):
         return len(self.steps)
@@ -135,17 +138,13 @@ def image(narrow, wide):
     return first_path(wide, rows, trail[0], trail[-1])
 
 
-def _both(flags, more):
-    """Two tuples of flags as one, ascending."""
-    return tuple(sorted(set([*flags, *more])))
-
-
 def _rows_of(schema, homes, filled):
     """Rows with the keys from 1; homes are their tables, filled their cells that are not empty."""
-    rows = []
-    for table in schema.tables:
-        row_keys = [at + 1 for at, home in enumerate(homes) if home == table]
-        for key in row_keys:
-            cells = {column: cell for (owner, column), cell in filled.items() if owner == key}
-            rows.append((table, key, full_cells(schema, table, cells)))
-    return tuple(rows)
+    cells = [{} for _ in homes]
+    for (key, column), cell in filled.items():
+        cells[key - 1][column] = cell
+    return tuple([
+        (table, at + 1, full_cells(schema, table, cells[at]))
+        for table in schema.tables
+        for at, home in enumerate(homes) if home == table
+    ])

@@ -16,10 +16,16 @@ def read_words(schema, text):
     hops = []
     asked = []
     for at, word in enumerate(text.split(" ")):
-        head = word.partition("[")[0]
-        hop, table = _place(schema, tables, head)
-        flags = _flags(schema, table, word[len(head):])
-        if at > MOST_STEPS or table is None or flags is None:
+        head, bracket, names = word.partition("[")
+        if at == 0:
+            place = (None, head) if head in schema else None
+        else:
+            place = schema.step_from(tables[-1], head)
+        if at > MOST_STEPS or place is None:
+            raise BadWay(at)
+        hop, table = place
+        flags = _flags(schema, table, names) if bracket else ()
+        if flags is None:
             raise BadWay(at)
         heads.append(head)
         tables.append(table)
@@ -30,57 +36,36 @@ def read_words(schema, text):
 
 def write_words(heads, asked):
     """The text of a way, from its words without flags and the flags of each position."""
-    return " ".join([head + _brackets(flags) for head, flags in zip(heads, asked)])
+    return " ".join([head + brackets(flags) for head, flags in zip(heads, asked)])
 
 
-def step_back(table, link):
-    """The word of the step from a row to those of table whose link leads to it."""
-    return f"~{table}.{link}"
+def all_flags(flags, more):
+    """Two tuples of flags as one, ascending."""
+    return tuple(sorted(set([*flags, *more])))
 
 
-def _place(schema, tables, head):
-    """The hop of a word behind a way through these tables, and the table that it reaches.
-
-    The table is None if the word means nothing there.
-    """
-    if not tables:
-        return (None, head if head in schema else None)
-    hop = _hop(schema, tables[-1], head)
-    if hop is None:
-        return (None, None)
-    back, owner, link = hop
-    return (hop, owner if back else schema.target(owner, link))
+def hop_word(hop):
+    """The word of a hop: the link along which it goes, or the step back against it."""
+    back, table, link = hop
+    return f"~{table}.{link}" if back else link
 
 
-def _hop(schema, table, head):
-    """The hop that a word means at a row of table; None if it means none."""
-    if not head.startswith("~"):
-        return (False, table, head) if _is_link(schema, table, head) else None
-    owner, _, link = head[1:].partition(".")
-    if not _is_link(schema, owner, link) or schema.target(owner, link) != table:
-        return None
-    return (True, owner, link)
+def turned(hop):
+    """The hop the other way."""
+    back, table, link = hop
+    return (not back, table, link)
 
 
-def _is_link(schema, table, column):
-    return (table, column) in schema and schema.kind(table, column) == "link"
-
-
-def _flags(schema, table, brackets):
-    """The flags in the brackets behind a word, ascending; None if they are wrong."""
-    if brackets == "":
-        return ()
-    names = brackets[1:-1].split(",")
-    if not brackets.endswith("]") or len(set(names)) < len(names):
-        return None
-    if not all([_is_flag(schema, table, name) for name in names]):
-        return None
-    return tuple(sorted(names))
-
-
-def _is_flag(schema, table, column):
-    return (table, column) in schema and schema.kind(table, column) == "flag"
-
-
-def _brackets(flags):
+def brackets(flags):
+    """What stands behind a word for the flags that are asked at its position."""
     return "[" + ",".join(flags) + "]" if flags else ""
+
+
+def _flags(schema, table, text):
+    """The flags of a table behind a bracket, ascending; None if they are wrong."""
+    if not text.endswith("]"):
+        return None
+    names = text[:-1].split(",")
+    found = tuple([flag for flag in schema.flags(table) if flag in names])
+    # A name that is no flag, or occurs twice, is one too many.
+    return found if len(found) == len(names) else None

@@ -1,8 +1,10 @@
-"""Desks and scenes by the words of the document, slowly, to hold the package against."""
+"""Desks, scenes and full books by the words of the document, slowly, to hold the package against."""
 
 import itertools
 
+from owedrebuilds.books import Book
 from owedrebuilds.errors import OwedError
+from owedrebuilds.hooks import Hook
 from owedrebuilds.ways import Way
 from helpers import all_trails, steps_of
 
@@ -357,3 +359,38 @@ def meetings_of_cell(hook, rows, first, last):
             side = "off" if deed[-1] == empty else "on"
             parts = (hook.document, None, hook.event, side, group)
             yield picture(schema, parts, ahead, behind, deed, (table, here), names[last])
+
+
+def hook_lines(one):
+    return [str(hook) for hook in one]
+
+
+def full_hooks_by_words(documents):
+    """The hooks of the full book by the words of point 31."""
+    found = []
+    for scene in scenes_by_words(Book(documents, [])):
+        name, number, event, side, group, _, changed = scene[:7]
+        document = next(document for document in documents if document.name == name)
+        if group == ():
+            words, flags = [document.base], [[]]
+            if number >= 0:
+                way = document.reads[number][0]
+                at = least(way)[1].index(changed[1])
+                heads = [link if back else f"~{table}.{link}" for back, table, link in steps_of(way)[:at]]
+                words = [way.tables[at], *heads[::-1]]
+                flags = [list(names) for names in way.asked[at::-1]]
+                if event[0] == "set" and event[2] in flags[0]:
+                    flags[0].remove(event[2])
+            texts = [word + ("[" + ",".join(names) + "]" if names else "") for word, names in zip(words, flags)]
+            look = "ahead" if side == "off" else "behind"
+            hook = Hook(event, look, Way(document.schema, " ".join(texts)), name)
+            if not any(is_equal(hook, earlier) for earlier in found):
+                found.append(hook)
+    return found
+
+
+def is_equal(hook, other):
+    """Whether two hooks are equal, as their ways lie in each other."""
+    if (hook.event, hook.look, hook.document) != (other.event, other.look, other.document):
+        return False
+    return hook.way in other.way and other.way in hook.way

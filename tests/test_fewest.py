@@ -9,8 +9,8 @@ from owedrebuilds.hooks import Hook
 from owedrebuilds.judging import judge
 from owedrebuilds.schemas import Schema
 from owedrebuilds.ways import Way
-from helpers import check_error, check_same, steps_of, strict
-from models import least, scenes_by_words
+from helpers import check_error, check_same, strict
+from models import full_hooks_by_words, hook_lines
 from samples import (
     CHAIN, PAIR, RING, ROAD, asking, changed_book, conditions, late_book, random_document, straight_document,
 )
@@ -30,34 +30,6 @@ SCHEMA = Schema("\n".join(SHOP))
 
 def book(*lines):
     return Book.read("\n".join(lines))
-
-
-def hook_lines(one):
-    return [str(hook) for hook in one]
-
-
-def full_hooks_by_words(documents):
-    """The hooks of the full book by the words of point 31."""
-    found = []
-    for scene in scenes_by_words(Book(documents, [])):
-        name, number, event, side, group, _, changed = scene[:7]
-        document = next(document for document in documents if document.name == name)
-        if group == ():
-            words, flags = [document.base], [[]]
-            if number >= 0:
-                way = document.reads[number][0]
-                at = least(way)[1].index(changed[1])
-                heads = [link if back else f"~{table}.{link}" for back, table, link in steps_of(way)[:at]]
-                words = [way.tables[at], *heads[::-1]]
-                flags = [list(names) for names in way.asked[at::-1]]
-                if event[0] == "set" and event[2] in flags[0]:
-                    flags[0].remove(event[2])
-            texts = [word + ("[" + ",".join(names) + "]" if names else "") for word, names in zip(words, flags)]
-            look = "ahead" if side == "off" else "behind"
-            hook = Hook(event, look, Way(document.schema, " ".join(texts)), name)
-            if hook not in found:
-                found.append(hook)
-    return found
 
 
 class FullBook(unittest.TestCase):

@@ -22,7 +22,8 @@ class Questions(unittest.TestCase):
     def test_words(self):
         for thing in ("a", "z", "word", "abcdefgh"):
             self.assertIs(is_word(thing), True)
-        for thing in OTHERS + (1, "", "A", "abcdefghi", "a b", "a1", ["a"], ("a",), {"a": "b"}):
+        wrong = ("", "A", "abcdefghi", "a b", "a1", "aB", "ab-", "1", "~a", "a\n")
+        for thing in OTHERS + wrong + (1, ["a"], ("a",), {"a": "b"}):
             self.assertIs(is_word(thing), False)
 
 
